@@ -78,3 +78,48 @@ def goes_ahead(rows):
         if not all(0 <= value <= number for value in used):
             return False
     return True
+
+
+def random_words(seed, width, size):
+    chance = random.Random(f"{seed} {width} {size}")
+    return [chance.randrange(2 ** width) for step in range(size)]
+
+
+def random_table(seed, width):
+    some = random_words(f"table {seed}", width, width + 1)
+    return (some[0], some[1:])
+
+
+def model_told(width, table, word):
+    """Point 6 word for word: START summed with the columns of the bits that are 1."""
+    total = table[0]
+    for column, bit in zip(table[1], bits(width, word)):
+        if bit == 1:
+            total = sum_of(width, total, column)
+    return total
+
+
+def is_word(width, word):
+    return type(word) is int and 0 <= word <= every(width)
+
+
+def is_table(width, table):
+    if type(table) is not tuple or len(table) != 2 or type(table[1]) is not list or len(table[1]) != width:
+        return False
+    return all(is_word(width, word) for word in [table[0]] + table[1])
+
+
+def is_deed(width, deed):
+    if type(deed) is not tuple or len(deed) != (2 if deed[0] == "fix" else 3):
+        return False
+    if not all(type(number) is int and number >= 0 for number in deed[1:]):
+        return False
+    most = {"fix": every(width), "mask": every(width), "turn": every(width), "both": 1000, "up": width, "down": width}
+    return deed[0] in most and deed[-1] <= most[deed[0]]
+
+
+def is_row(width, rows):
+    """Whether this is a row of deeds by point 2."""
+    if type(rows) is not list or len(rows) > 1000:
+        return False
+    return all(is_deed(width, deed) for deed in rows) and goes_ahead(rows)

@@ -23,6 +23,7 @@ namedtuple NamedTuple TypedDict TYPE_CHECKING abstractmethod""".split()
 NAMES_NOT_USED = """register mro elements open input version_info with_traceback add_note attrgetter breakpoint builtins
 compile copyright credits delattr dir eval exec exit gc getattr globals hasattr help id importlib license locals
 methodcaller os quit setattr super type vars sys chr print format format_map""".split()
+WALKERS = "list tuple dict sorted sum any all enumerate zip min max".split()
 
 
 def files():
@@ -44,6 +45,15 @@ def walked(kinds):
 def defined(path):
     return {node.name for node in tree_of(path).body if isinstance(node, (ast.FunctionDef, ast.ClassDef))} | {
         node.targets[0].id for node in tree_of(path).body if isinstance(node, ast.Assign)}
+
+
+def walked_on_the_spot(tree):
+    """What is walked at once: what stands behind the in of a walk, or as the first thing in a call that walks it."""
+    for node in ast.walk(tree):
+        if isinstance(node, (ast.For, ast.comprehension)):
+            yield node.iter
+        if isinstance(node, ast.Call) and isinstance(node.func, ast.Name) and node.func.id in WALKERS:
+            yield from node.args[:1]
 
 
 def is_docstring(node):
@@ -115,6 +125,15 @@ class Tops(unittest.TestCase):
                     waiting.extend(draws[stem])
             self.assertNotIn(start, reached)
 
+    def test_no_local_is_called_like_a_class_or_an_import_of_its_file(self):
+        for path in files():
+            taken = {alias.name for node in ast.walk(tree_of(path)) if isinstance(node, ast.ImportFrom)
+                     for alias in node.names}
+            taken |= {node.name for node in ast.walk(tree_of(path)) if isinstance(node, ast.ClassDef)}
+            for node in ast.walk(tree_of(path)):
+                if isinstance(node, ast.arg) or isinstance(node, ast.Name) and isinstance(node.ctx, ast.Store):
+                    self.assertNotIn(getattr(node, "arg", getattr(node, "id", "")), taken, (path.name, node.lineno))
+
 
 class Code(unittest.TestCase):
     def test_statements_and_expressions(self):
@@ -164,6 +183,15 @@ class Code(unittest.TestCase):
         for node, where in walked(ast.Call):
             if isinstance(node.func, ast.Attribute):
                 self.assertTrue(node.func.attr in METHODS or node.func.attr in own, where)
+
+    def test_walked_at_once(self):
+        for path in files():
+            tree = tree_of(path)
+            walks = list(walked_on_the_spot(tree))
+            for node in ast.walk(tree):
+                if isinstance(node, ast.Call) and isinstance(node.func, ast.Name):
+                    if node.func.id in ("zip", "enumerate", "reversed", "range"):
+                        self.assertIn(node, walks, (path.name, node.lineno))
 
     def test_is_stands_beside_none_true_and_false(self):
         for node, where in walked(ast.Compare):

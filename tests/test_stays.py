@@ -1,11 +1,16 @@
 """Point 3: what is handed in stays, and what is told is the asker's own."""
 
+import copy
 import unittest
 
 from bitferry.deeds import answer, behind, values
-from bitferry.errors import NoDeed
+from bitferry.errors import NoDeed, NoWay
+from bitferry.exchanges import exchanged, exchanges_of, is_good, rows_by
+from bitferry.pressing import press_rows, pressed, spread, spread_rows
+from bitferry.tables import joined, rows_of, table_of, told, unlike
 from bitferry.text import read, shown
-from helper import random_row
+from bitferry.turned import like_words, turned_back, whence
+from helper import WIDTHS, every, random_row, random_table
 
 
 class HandedIn(unittest.TestCase):
@@ -73,6 +78,78 @@ class Told(unittest.TestCase):
         for told in (behind(row, []), behind([], row)):
             told.clear()
             self.assertEqual(row, kept)
+
+
+def spoil(thing):
+    """Every list in the thing, however deep, is changed."""
+    if isinstance(thing, (list, tuple)):
+        for part in thing:
+            spoil(part)
+    if isinstance(thing, list):
+        thing.reverse()
+        thing.append("spoilt")
+
+
+def calls(width):
+    """A call of each function of stages 2 to 5, and of some with things that could be told as they were handed in."""
+    row = random_row("calls", width, 9)
+    table = random_table("calls", width)
+    same = (0, [2 ** place for place in range(width)])
+    about = list(range(width - 1, -1, -1))
+    some = [(1, width - 1), (0, 1), (1, 1)] if width > 1 else []
+    asked = [(table_of, width, row), (table_of, width, []), (told, table, 1), (unlike, table, same)]
+    asked += [(unlike, table, table), (joined, table, same), (joined, same, table), (joined, table, table)]
+    asked += [(rows_of, width, table), (rows_of, width, same), (rows_of, width, (1, [0] * width))]
+    asked += [(turned_back, width, same), (turned_back, width, (1, list(reversed(same[1]))))]
+    asked += [(like_words, width, table), (like_words, width, same), (like_words, width, (1, [0] * width))]
+    asked += [(whence, width, table, 1), (whence, width, same, 1), (whence, width, (1, [0] * width), 0)]
+    asked += [(is_good, width, (1, 1)), (exchanged, 1, some), (rows_by, some), (rows_by, []), (rows_by, some[:1])]
+    asked += [(exchanges_of, width, about), (exchanges_of, width, list(range(width)))]
+    for mask in (0, 1, every(width)):
+        asked += [(pressed, width, 1, mask), (spread, width, 1, mask)]
+        asked += [(press_rows, width, mask), (spread_rows, width, mask)]
+    # Copied one by one: what is spoilt for one call is not handed in to the next.
+    return [copy.deepcopy(call) for call in asked]
+
+
+class TablesExchangesAndPressing(unittest.TestCase):
+    def test_what_is_handed_in_stays(self):
+        for width in WIDTHS:
+            for ask, *given in calls(width):
+                kept = copy.deepcopy(given)
+                ask(*given)
+                self.assertEqual(given, kept, (ask.__name__, width))
+
+    def test_what_is_refused_stays(self):
+        table = (3, [1, 2, 3, 0])
+        with self.assertRaises(NoWay):
+            turned_back(4, table)
+        self.assertEqual(table, (3, [1, 2, 3, 0]))
+
+    def test_what_is_told_is_the_askers_own(self):
+        for width in WIDTHS:
+            for ask, *given in calls(width):
+                first = ask(*given)
+                kept = copy.deepcopy(first)
+                second = ask(*given)
+                spoil(first)
+                self.assertEqual(second, kept, (ask.__name__, width))
+                self.assertEqual(ask(*given), kept, (ask.__name__, width))
+
+    def test_spoiling_what_is_told_spoils_nothing_handed_in(self):
+        for width in WIDTHS:
+            for ask, *given in calls(width):
+                kept = copy.deepcopy(given)
+                spoil(ask(*given))
+                self.assertEqual(given, kept, (ask.__name__, width))
+
+    def test_changed_behind_the_call(self):
+        for width in WIDTHS:
+            for ask, *given in calls(width):
+                answered = ask(*given)
+                kept = copy.deepcopy(answered)
+                spoil(given)
+                self.assertEqual(answered, kept, (ask.__name__, width))
 
 
 if __name__ == "__main__":
