@@ -17,8 +17,8 @@ def answer(width, rows, word):
 def behind(first, second):
     # The second row's value 0 is the first row's last value, whose number is len(first):
     # so all its numbers of values rise by that, and no deed is needed in between.
-    rise = len(first)
-    return list(first) + [raised(deed, rise) for deed in second]
+    goes = [len(first) + number for number in range(len(second))]
+    return list(first) + [renumbered(deed, goes) for deed in second]
 
 
 def made_by(deed, made, every):
@@ -37,10 +37,11 @@ def made_by(deed, made, every):
     return value >> deed[2]
 
 
-def raised(deed, rise):
+def renumbered(deed, goes):
+    # Goes has, for each number of a value, the number by which the deed is to go instead.
     name = deed[0]
     if name == "fix":
         return deed
     if name == "both":
-        return (name, deed[1] + rise, deed[2] + rise)
-    return (name, deed[1] + rise, deed[2])
+        return (name, goes[deed[1]], goes[deed[2]])
+    return (name, goes[deed[1]], deed[2])

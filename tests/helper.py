@@ -4,6 +4,7 @@ import random
 
 WIDTHS = (1, 2, 4, 8, 16, 32, 64)
 NAMES = ("fix", "mask", "turn", "both", "up", "down")
+TIMES_TWO = {1: 0, 2: 1, 4: 2, 8: 3, 16: 4, 32: 5, 64: 6}
 
 
 def every(width):
@@ -15,6 +16,11 @@ def sample_words(width):
     some = [0, 1, every(width), 2 ** (width - 1), every(width) - 1]
     some += [chance.randrange(2 ** width) for step in range(6)]
     return sorted(set(some))
+
+
+def settling_words(width):
+    """0, each bit alone, every bit and some others: the first ones settle what sums without carrying for all words."""
+    return sorted({0} | {2 ** place for place in range(width)} | set(sample_words(width)))
 
 
 def random_deed(chance, width, ahead, name):
@@ -97,6 +103,30 @@ def model_told(width, table, word):
         if bit == 1:
             total = sum_of(width, total, column)
     return total
+
+
+def places(width, mask):
+    return [place for place, mark in enumerate(bits(width, mask)) if mark == 1]
+
+
+def model_pressed(width, word, mask):
+    made = [bits(width, word)[place] for place in places(width, mask)]
+    return word_of(made)
+
+
+def model_spread(width, word, mask):
+    made = [0] * width
+    for place, bit in zip(places(width, mask), bits(width, word)):
+        made[place] = bit
+    return word_of(made)
+
+
+def model_about(width, word):
+    return word_of(bits(width, word)[::-1])
+
+
+def model_running(width, word):
+    return word_of([sum(bits(width, word)[:place + 1]) % 2 for place in range(width)])
 
 
 def is_word(width, word):

@@ -184,6 +184,15 @@ class Code(unittest.TestCase):
             if isinstance(node.func, ast.Attribute):
                 self.assertTrue(node.func.attr in METHODS or node.func.attr in own, where)
 
+    def test_values_of_objects(self):
+        methods = {part.name for node, where in walked(ast.ClassDef) for part in node.body
+                   if isinstance(part, ast.FunctionDef)}
+        own = {name for kind in (str, int, list, dict, set, bytes, ValueError) for name in dir(kind)}
+        for node, where in walked(ast.Attribute):
+            if isinstance(node.ctx, ast.Store):
+                self.assertEqual(getattr(node.value, "id", ""), "self", where)
+                self.assertNotIn(node.attr, methods | own, where)
+
     def test_walked_at_once(self):
         for path in files():
             tree = tree_of(path)

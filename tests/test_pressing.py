@@ -5,25 +5,8 @@ import unittest
 
 from bitferry.deeds import answer
 from bitferry.pressing import press_rows, pressed, spread, spread_rows
-from helper import WIDTHS, bits, every, is_row, is_word, sample_words, word_of
-
-TIMES_TWO = {1: 0, 2: 1, 4: 2, 8: 3, 16: 4, 32: 5, 64: 6}
-
-
-def places(width, mask):
-    return [place for place, mark in enumerate(bits(width, mask)) if mark == 1]
-
-
-def model_pressed(width, word, mask):
-    made = [bits(width, word)[place] for place in places(width, mask)]
-    return word_of(made)
-
-
-def model_spread(width, word, mask):
-    made = [0] * width
-    for place, bit in zip(places(width, mask), bits(width, word)):
-        made[place] = bit
-    return word_of(made)
+from helper import (TIMES_TWO, WIDTHS, bits, every, is_row, is_word, model_pressed, model_spread, places, sample_words,
+                    word_of)
 
 
 def masks(width):

@@ -6,6 +6,8 @@ import unittest
 from bitferry.deeds import answer, behind, values
 from bitferry.errors import NoDeed, NoWay
 from bitferry.exchanges import exchanged, exchanges_of, is_good, rows_by
+from bitferry.fewer import fewer
+from bitferry.moves import about_rows, move_of, move_table, moved, running_rows, undone_rows
 from bitferry.pressing import press_rows, pressed, spread, spread_rows
 from bitferry.tables import joined, rows_of, table_of, told, unlike
 from bitferry.text import read, shown
@@ -91,7 +93,7 @@ def spoil(thing):
 
 
 def calls(width):
-    """A call of each function of stages 2 to 5, and of some with things that could be told as they were handed in."""
+    """A call of each function of stages 2 to 7, and of some with things that could be told as they were handed in."""
     row = random_row("calls", width, 9)
     table = random_table("calls", width)
     same = (0, [2 ** place for place in range(width)])
@@ -108,11 +110,16 @@ def calls(width):
     for mask in (0, 1, every(width)):
         asked += [(pressed, width, 1, mask), (spread, width, 1, mask)]
         asked += [(press_rows, width, mask), (spread_rows, width, mask)]
+    for move in (about, list(range(width)), [-1] * width, [-2] * width):
+        asked += [(moved, width, move, 1), (move_table, width, move), (move_of, width, move_table(width, move))]
+    asked += [(move_of, width, (1, [1] * width)), (about_rows, width), (running_rows, width), (undone_rows, width)]
+    for rows in ([], row, [("turn", 0, 1)], [("up", 0, 0)], [("fix", 1)], [("turn", 0, 1), ("both", 0, 1)]):
+        asked += [(fewer, width, rows)]
     # Copied one by one: what is spoilt for one call is not handed in to the next.
     return [copy.deepcopy(call) for call in asked]
 
 
-class TablesExchangesAndPressing(unittest.TestCase):
+class AllOfStagesTwoToSeven(unittest.TestCase):
     def test_what_is_handed_in_stays(self):
         for width in WIDTHS:
             for ask, *given in calls(width):
